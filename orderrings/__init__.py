@@ -1,0 +1,1 @@
+"""Orderrings: letters to groups that share people."""

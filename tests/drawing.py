@@ -1,0 +1,108 @@
+"""BOOKS, RUNS and things for the tests, drawn from fixed seeds."""
+
+import random
+
+NAMES = ("a", "b", "c", "d", "p", "q", "ab", "z", "zz", "abcdefgh")
+
+RING = (("a", ("p", "r")), ("b", ("p", "q")), ("c", ("q", "r")))
+ROW = (("a", ("p",)), ("b", ("p", "q")), ("c", ("q", "r", "s")))
+LONE = (("a", ("a",)),)
+# Groups and people of the same NAMES.
+SAME = (("a", ("a", "b")), ("b", ("a", "b", "c")), ("c", ("c",)))
+# A round of four groups, and one that hangs on it.
+SQUARE = (("a", ("s", "t")), ("b", ("t", "u")), ("c", ("u", "v")), ("d", ("s", "v", "w")), ("e", ("w",)))
+# Two blocks that meet in one person, and two that meet in one group.
+BOW = (("a", ("p", "q")), ("b", ("p", "q")), ("c", ("q", "r")), ("d", ("q", "r")))
+KNOT = (("a", ("p", "q")), ("b", ("p", "q", "r", "s")), ("c", ("r", "s")))
+FULL = tuple((group, tuple("pqrstuvw")) for group in "abcdefgh")
+APART = tuple((group, (person,)) for group, person in zip("abcdefgh", "pqrstuvw"))
+CIRCLE = tuple((group, tuple(sorted((one, other)))) for group, one, other in zip("abcdefgh", "pqrstuvw", "qrstuvwp"))
+CHAIN = tuple((group, (one, other)) for group, one, other in zip("abcdefg", "pqrstuv", "qrstuvw"))
+TOLD_BOOKS = (RING, ROW, LONE, SAME, SQUARE, BOW, KNOT)
+GREAT_BOOKS = (FULL, APART, CIRCLE, CHAIN)
+
+
+def some_names(draw, least, most, pool=NAMES):
+    return tuple(sorted(draw.sample(pool, draw.randint(least, min(most, len(pool))))))
+
+
+def drawn_book(draw, most_groups=4, most_people=4):
+    crowd = some_names(draw, 1, most_people)
+    share = draw.choice((1, 2, len(crowd)))
+    return tuple((group, some_names(draw, 1, share, crowd)) for group in some_names(draw, 1, most_groups))
+
+
+def drawn_books(seed, many, most_groups=4, most_people=4):
+    draw = random.Random(seed)
+    return TOLD_BOOKS + tuple(drawn_book(draw, most_groups, most_people) for _ in range(many))
+
+
+def thick_books(seed, many):
+    """BOOKS of three or four groups with two people or more in each."""
+    draw = random.Random(seed)
+    crowds = [some_names(draw, 3, 4) for _ in range(many)]
+    return tuple(tuple((group, some_names(draw, 2, 4, crowd)) for group in some_names(draw, 3, 4)) for crowd in crowds)
+
+
+def thin_books(seed, many):
+    """BOOKS of many groups with one or two people in each."""
+    draw = random.Random(seed)
+    crowds = [some_names(draw, 3, 6) for _ in range(many)]
+    return tuple(tuple((group, some_names(draw, 1, 2, crowd)) for group in some_names(draw, 3, 6)) for crowd in crowds)
+
+
+def drawn_numbers(draw, book, total):
+    numbers = [0] * len(book)
+    for _ in range(draw.randint(0, total)):
+        numbers[draw.randrange(len(book))] += 1
+    return tuple(numbers)
+
+
+def drawn_row(draw, letters):
+    """These LETTERS mixed, those of each group in their order."""
+    left = {}
+    for group, number in sorted(letters):
+        left.setdefault(group, []).append((group, number))
+    order = [group for group, _ in letters]
+    draw.shuffle(order)
+    return tuple(left[group].pop(0) for group in order)
+
+
+def all_letters(book, numbers):
+    return tuple((entry[0], number) for entry, many in zip(book, numbers) for number in range(1, many + 1))
+
+
+def crowd_of(book):
+    return sorted(set(person for _, members in book for person in members))
+
+
+def drawn_run(draw, book, numbers):
+    """Any RUN, or one with a WEAVING."""
+    base = drawn_row(draw, all_letters(book, numbers))
+    mixing = draw.random() < 0.6
+    run = []
+    for person in crowd_of(book):
+        mine = [entry[0] for entry in book if person in entry[1]]
+        row = tuple(letter for letter in base if letter[0] in mine)
+        run.append((person, drawn_row(draw, row) if mixing and draw.random() < 0.7 else row))
+    return tuple(run)
+
+
+def nested(depth, core):
+    for _ in range(depth):
+        core = (core,)
+    return core
+
+
+THINGS = (
+    0, 1, -1, 2, 10 ** 30, -10 ** 30, 10 ** 6000, True, False, None, "", "a", "b", "p", "ab", "A", "a b", "\n", "a\n",
+    "abcdefgh", "abcdefghi", "\u00e9", "\uff41", "a" * 5000, (), [], ((),), [[]], ([],), [()], (((),),), (None,), (True,),
+    (0,), (1,), ("a",), ["a"], ("a", "b"), ("a", 1), ["a", 1], ("a", True), ("a", "1"), ("a", None), (("a", 1),),
+    [("a", 1)], (["a", 1],), (("a", True),), (("a", 1), ("a", 2)), (("a", 2), ("a", 1)), (("a", 1), 3), ((1, "a"),),
+    ("a", ("p",)), (("a", ("p",)), None), (("a", ["p"]),), [("a", ("p",))], (["a", ("p",)],), (("a", "p"),),
+    (("a", ("p",), ()),), (("a",),), ((("p",), "a"),), (("a", (1,)),), ((1, ("p",)),), ((None, None),),
+    ("a", "p", "b", "q"), ["a", "p", "b", "q"], ("a", "p", "b"), ("a", "p", "b", 1), ("a", ("p",), "b", "q"),
+    ("a", "p", "b", "p"), ("a", "p", "a", "q"), (("p", ()),), (("p", []),), (("p", None),), (("p", ("a",)),),
+    (("p", (("a", 1),)), ("q", ())), (("p", (("a", 0),)),), (("p", ((("a", 1),),)),), nested(11, ()), nested(11, "a"),
+    [nested(10, ["a"])], ("a",) * 3000, (("a", 1),) * 3000, tuple(range(3000)),
+)

@@ -1,0 +1,111 @@
+"""[2]: each function called in all ways that the document allows."""
+
+import copy
+import random
+import unittest
+
+from calls import drawn_calls
+from drawing import RING
+from interface import FUNCTIONS
+from orderrings import webs
+from reading import outcome
+
+CALLS = list(drawn_calls())
+
+
+def as_lists(value):
+    if isinstance(value, (list, tuple)):
+        return [as_lists(item) for item in value]
+    return value
+
+
+def mixed(draw, value):
+    """Lists and tuples at any depth, as it comes."""
+    if isinstance(value, (list, tuple)):
+        return draw.choice((list, tuple))(mixed(draw, item) for item in value)
+    return value
+
+
+def lists_for_tuples(args, change):
+    """The arguments with lists in the place of tuples; thing alone stays as it is."""
+    return {name: value if name == "thing" else change(value) for name, value in args.items()}
+
+
+def all_kinds(value):
+    """The classes of a value and of all that it holds."""
+    found = {type(value)}
+    if isinstance(value, (list, tuple)):
+        found = found.union(*[all_kinds(item) for item in value])
+    return found
+
+
+class Calls(unittest.TestCase):
+    def each(self):
+        for call, args in CALLS:
+            yield call, args, outcome(call, *args.values())
+
+    def test_each_function_is_called_and_most_of_them_return(self):
+        returned = {call.__name__ for call, _, told in self.each() if told.startswith("returns ")}
+        self.assertEqual(returned, {name for names in FUNCTIONS.values() for name in names})
+
+    def test_no_other_errors(self):
+        for call, args, told in self.each():
+            self.assertTrue(told.startswith(("returns ", "raises orderrings.errors.")), (call, args, told))
+
+    def test_called_twice(self):
+        for call, args, told in self.each():
+            self.assertEqual(outcome(call, *args.values()), told, (call, args))
+
+    def test_by_names(self):
+        for call, args, told in self.each():
+            self.assertEqual(outcome(call, **args), told, (call, args))
+            turned = dict(reversed(list(args.items())))
+            self.assertEqual(outcome(call, **turned), told, (call, args))
+
+    def test_lists_for_tuples(self):
+        for call, args, told in self.each():
+            lists = lists_for_tuples(args, as_lists)
+            self.assertEqual(outcome(call, *lists.values()), told, (call, args))
+            self.assertEqual(outcome(call, **lists), told, (call, args))
+
+    def test_lists_for_tuples_at_any_depth(self):
+        draw = random.Random(54)
+        for call, args, told in self.each():
+            for _ in range(4):
+                lists = lists_for_tuples(args, lambda value: mixed(draw, value))
+                self.assertEqual(outcome(call, *lists.values()), told, (call, lists))
+
+    def test_arguments_stay_as_they_were(self):
+        for call, args, _ in self.each():
+            lists = lists_for_tuples(args, as_lists)
+            kept = copy.deepcopy(lists)
+            outcome(call, *lists.values())
+            self.assertEqual(repr(lists), repr(kept))
+
+    def test_results_share_nothing_with_arguments(self):
+        # Only tuples are inside of results: so a list that was handed in cannot be.
+        for call, args, told in self.each():
+            lists = lists_for_tuples(args, as_lists)
+            if told.startswith("returns "):
+                result = call(*lists.values())
+                if call is webs.rounds:
+                    self.assertIs(type(result), list)
+                    result = tuple(result)
+                self.assertLessEqual(all_kinds(result), {tuple, str, int, bool, type(None)}, call)
+
+    def test_returned_lists_are_new(self):
+        for book in (RING, as_lists(RING)):
+            first = webs.rounds(book)
+            first.append("x")
+            second = webs.rounds(book)
+            self.assertEqual(second, [("a", "p", "b", "q", "c", "r")])
+            second.clear()
+            self.assertEqual(webs.rounds(book), [("a", "p", "b", "q", "c", "r")])
+
+    def test_each_error_is_raised(self):
+        raised = {told.split()[1].rpartition(".")[2] for _, _, told in self.each() if told.startswith("raises ")}
+        self.assertEqual(raised, {"NoGroup", "NoPerson", "NoNumber", "Known", "Unfit"})
+
+
+if __name__ == "__main__":
+    unittest.main()
