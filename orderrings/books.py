@@ -33,6 +33,12 @@ def need_group(book, group):
         raise NoGroup(group)
 
 
+def need_groups(book, some):
+    """Raises NoGroup for the first of these that is no group of the BOOK."""
+    for group in some:
+        need_group(book, group)
+
+
 def need_person(book, person):
     """Raises NoPerson if nobody in the BOOK has this name."""
     if person not in people(book):
@@ -105,8 +111,7 @@ def without_group(book, group):
 
 def cut_to(book, some):
     """The BOOK with these groups alone."""
-    for group in some:
-        need_group(book, group)
+    need_groups(book, some)
     return tuple([(group, members) for group, members in as_tuples(book) if group in some])
 
 

@@ -21,7 +21,7 @@ def needs_of(run):
 
 def nothing_yet(needs):
     """What has come at first: no LETTER of any group."""
-    return tuple([(group, 0) for group in sorted({group for group, _ in needs})])
+    return tuple([(group, 0) for group in sorted({name for name, _ in needs})])
 
 
 def next_letters(needs, done):

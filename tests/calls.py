@@ -2,11 +2,12 @@
 
 import random
 
-from drawing import NAMES, THINGS, all_letters, drawn_book, drawn_books, drawn_numbers, drawn_row, drawn_run, some_names
-from drawing import thick_books
-from orderrings import books, runs, webs
+import reading
+from drawing import NAMES, THINGS, all_letters, circle_books, drawn_book, drawn_books, drawn_numbers, drawn_row, drawn_run
+from drawing import some_names, thick_books, wild_run
+from orderrings import books, classes, judged, leaving, rings, runs, webs
 
-BOOKS = drawn_books(51, 20) + thick_books(52, 12)
+BOOKS = drawn_books(51, 20) + thick_books(52, 12) + circle_books(54, 6)
 
 
 def book_calls(draw, book):
@@ -81,6 +82,92 @@ def weaving_calls(draw, book):
     yield runs.number_of_weaving, {"run": woven, "letters": letters}
 
 
+def ring_calls(draw, book):
+    names = [group for group, _ in book]
+    yield from ((call, {"book": book}) for call in (
+        rings.can_ring, rings.ring_groups, rings.tight_sets, rings.tight_groups, rings.fewest_letters, rings.ring_sizes,
+        rings.quiet_sets, rings.most_quiet, rings.pairs_apart, rings.agree_always,
+    ))
+    tight = draw.choice(rings.tight_sets(book) + (tuple(names),))
+    for some in (tight, some_names(draw, 0, len(names), names), tuple(sorted(tight + ("x",))), ()):
+        for call in (rings.can_ring_of, rings.ring_run):
+            yield call, {"book": book, "some": some}
+        right = rings.ring_run(book, tight)
+        for thing in (right, [right], ((("p", ()),), ()), draw.choice(THINGS)):
+            yield rings.is_ring_run, {"book": book, "some": some, "thing": thing}
+    letters = [(group, number) for group in names for number in (1, 2, 7)]
+    for _ in range(3):
+        yield rings.can_be_ring, {"book": book, "row": tuple(draw.sample(letters, draw.randint(2, min(5, len(letters)))))}
+
+
+def class_calls(draw, book):
+    every = reading.partings([group for group, _ in book])
+    one, other = draw.choice(every), draw.choice(every + [every[0]])
+    run = wild_run(draw, book, drawn_numbers(draw, book, 6))
+    yield from ((call, {"book": book}) for call in (
+        classes.lone_classes, classes.one_class, classes.finest_right, classes.must_join, classes.how_many_right,
+    ))
+    for sets in (one, other, every[0]):
+        yield classes.keeps_classes, {"book": book, "classes": sets, "run": run}
+        yield from ((call, {"book": book, "classes": sets}) for call in (
+            classes.are_right, classes.split_round, classes.class_ring, classes.mended, classes.fewest_joins,
+            classes.least_joins, classes.number_of_right, classes.pairs_agree,
+        ))
+        for thing in (sets, list(sets), classes.split_round(book, sets), draw.choice(THINGS)):
+            yield classes.is_classes, {"book": book, "thing": thing}
+            yield classes.is_split_round, {"book": book, "classes": one, "thing": thing}
+        for thing in (classes.class_ring(book, sets), [run, ()], (run, ()), draw.choice(THINGS)):
+            yield classes.is_class_ring, {"book": book, "classes": other, "thing": thing}
+    for call in (classes.is_coarser, classes.joined_classes, classes.common_classes):
+        yield call, {"one": one, "other": other}
+    for number in (0, 1, 4, -1):
+        yield classes.nth_right, {"book": book, "number": number}
+
+
+def judged_calls(draw, book):
+    names = [group for group, _ in book]
+    for run in (drawn_run(draw, book, drawn_numbers(draw, book, 6)), wild_run(draw, book, drawn_numbers(draw, book, 9))):
+        letters = reading.letters_in(run)
+        yield from ((call, {"run": run}) for call in (
+            judged.short_ring, judged.a_ring, judged.short_rings, judged.clashes, judged.ring_letters, judged.mixed_up,
+            judged.settled_letters, judged.least_people_off, judged.mending_swaps, judged.least_letters_off,
+        ))
+        if letters:
+            yield judged.seen_by, {"run": run, "one": letters[0], "other": draw.choice(letters)}
+        ring = judged.a_ring(run)
+        if ring is not None:
+            yield judged.seers_of, {"run": run, "ring": ring}
+        for thing in (ring, ring and list(ring), tuple(letters), draw.choice(THINGS)):
+            for call in (judged.is_ring, judged.is_short_ring):
+                yield call, {"run": run, "thing": thing}
+        for some in (some_names(draw, 1, len(names), names), some_names(draw, 1, 3)):
+            yield judged.cut_run, {"book": book, "run": run, "some": some}
+        yield judged.least_ring_groups, {"book": book, "run": run}
+        yield judged.against_row, {"run": run, "row": drawn_row(draw, tuple(letters))}
+
+
+def leaving_calls(draw, book):
+    ties = reading.ties(book)
+    yield from ((call, {"book": book}) for call in (
+        leaving.fewest_ends, leaving.least_ends, leaving.ways_to_end, leaving.calm_joins, leaving.least_closed,
+        leaving.least_gone,
+    ))
+    for many in (0, 1, 2, 3):
+        ends = tuple(sorted(draw.sample(ties, min(many, len(ties)))))
+        for call in (leaving.kept, leaving.is_mended, leaving.more_ends, leaving.spare_ends):
+            yield call, {"book": book, "ends": ends}
+            yield call, {"book": book, "ends": ends + (("zz", "zz"),)}
+    for pool in ((0, 1, 2), (0,), (1, 10 ** 30)):
+        yield leaving.cheapest_ends, {"book": book, "prices": tuple(draw.choice(pool) for _ in ties)}
+    for _ in range(3):
+        group, person = draw.choice([group for group, _ in book] + ["x"]), draw.choice(reading.crowd(book) + ["y"])
+        yield leaving.can_join, {"book": book, "group": group, "person": person}
+    if len(ties) < 13:
+        yield leaving.least_pair_ends, {"book": book}
+        sets = draw.choice(reading.partings([group for group, _ in book]))
+        yield leaving.least_ends_beside, {"book": book, "classes": sets}
+
+
 def drawn_calls():
     """Pairs (function, arguments by their names, in their order)."""
     draw = random.Random(53)
@@ -90,3 +177,7 @@ def drawn_calls():
         yield from round_calls(draw, book)
         yield from run_calls(draw, book)
         yield from weaving_calls(draw, book)
+        yield from ring_calls(draw, book)
+        yield from class_calls(draw, book)
+        yield from judged_calls(draw, book)
+        yield from leaving_calls(draw, book)

@@ -2,6 +2,8 @@
 
 import random
 
+from reading import many_runs
+
 NAMES = ("a", "b", "c", "d", "p", "q", "ab", "z", "zz", "abcdefgh")
 
 RING = (("a", ("p", "r")), ("b", ("p", "q")), ("c", ("q", "r")))
@@ -51,6 +53,22 @@ def thin_books(seed, many):
     return tuple(tuple((group, some_names(draw, 1, 2, crowd)) for group in some_names(draw, 3, 6)) for crowd in crowds)
 
 
+def circle_books(seed, many, most_groups=5):
+    """BOOKS of a circle of three groups or more, with some MEMBERSHIPS more, and maybe a group more."""
+    draw = random.Random(seed)
+    found = []
+    for _ in range(many):
+        size = draw.randint(3, most_groups)
+        names, crowd = draw.sample("abcdefg", size), draw.sample("pqrstuvab", size)
+        table = {name: {crowd[at - 1], crowd[at]} for at, name in enumerate(names)}
+        if draw.random() < 0.3:
+            table["x"] = {draw.choice(crowd), draw.choice(crowd + ["z"])}
+        for _ in range(draw.choice((0, 0, 1, 1, 2))):
+            table[draw.choice(names)].add(draw.choice(crowd))
+        found.append(tuple(sorted((name, tuple(sorted(members))) for name, members in table.items())))
+    return tuple(found)
+
+
 def drawn_numbers(draw, book, total):
     numbers = [0] * len(book)
     for _ in range(draw.randint(0, total)):
@@ -66,6 +84,14 @@ def drawn_row(draw, letters):
     order = [group for group, _ in letters]
     draw.shuffle(order)
     return tuple(left[group].pop(0) for group in order)
+
+
+def small_numbers(draw, book, most_runs):
+    """Numbers of LETTERS with few RUNS, so that the test can list them."""
+    while True:
+        numbers = drawn_numbers(draw, book, 5)
+        if many_runs(book, numbers) <= most_runs:
+            return numbers
 
 
 def all_letters(book, numbers):
@@ -86,6 +112,69 @@ def drawn_run(draw, book, numbers):
         row = tuple(letter for letter in base if letter[0] in mine)
         run.append((person, drawn_row(draw, row) if mixing and draw.random() < 0.7 else row))
     return tuple(run)
+
+
+def bent_runs(draw, run):
+    """RUNS with one thing changed: most of them are none."""
+    yield list(run)
+    yield run[::-1]
+    yield run[1:]
+    yield run[:-1]
+    yield run + run[-1:]
+    yield run + (("zzz", ()),)
+    yield tuple(person for person, _ in run)
+    for at, (person, row) in enumerate(run):
+        pairs = [[person, row], (person, list(row)), (person,), (person, row, ()), (person, None), ("zzz", row), (1, row),
+                 row, (row, person), (person, row[::-1]), (person, row[1:]), (person, row[:-1]), (person, row + row[-1:]),
+                 (person, row + (("a", 1),)), (person, ()), (person, (row,)), ((person,), row), None]
+        for place, (group, number) in enumerate(row):
+            other = draw.choice(row)
+            letters = [[group, number], (group, True), (group, number + 1), (group, number - 1), (group, 0), (group, -1),
+                       (group, None), (group, str(number)), (group,), (group, number, 1), ("zzz", number), group, None,
+                       (1, number), other, (number, group), ((group, number),), (group, (number,)), (group, 10 ** 30)]
+            pairs.extend((person, row[:place] + (letter,) + row[place + 1:]) for letter in letters)
+            pairs.append((person, row[:place] + row[place + 1:place + 2] + (row[place],) + row[place + 2:]))
+            pairs.append((person, row[:place] + row[place + 1:]))
+        for pair in pairs:
+            yield run[:at] + (pair,) + run[at + 1:]
+
+
+def bent_leaves(leaf):
+    """Other things in the place of a string or a number."""
+    if isinstance(leaf, str):
+        return [leaf + "x", "zzz", "", "A", None, 1, (leaf,), [leaf]]
+    return [leaf + 1, leaf - 1, -leaf, 0, True, None, str(leaf), (leaf,), 10 ** 30]
+
+
+def bent(draw, thing):
+    """The thing with one thing changed, at any depth: most of what it may be no longer fits."""
+    if not isinstance(thing, tuple):
+        yield from bent_leaves(thing)
+        return
+    yield list(thing)
+    yield thing[::-1]
+    yield thing[1:]
+    yield thing[:-1]
+    yield thing + thing[-1:]
+    yield thing[:1] + thing
+    yield (thing,)
+    yield ()
+    for at, item in enumerate(thing):
+        other = draw.choice(thing)
+        for new in [other, None] + list(bent(draw, item)):
+            yield thing[:at] + (new,) + thing[at + 1:]
+        yield thing[:at] + thing[at + 1:]
+        yield thing[:at] + thing[at + 1:at + 2] + (item,) + thing[at + 2:]
+
+
+def wild_run(draw, book, numbers):
+    """Any RUN, each row by itself: most of them have RINGS where there are ROUNDS."""
+    table = dict(book)
+    letters = all_letters(book, numbers)
+    return tuple(
+        (person, drawn_row(draw, tuple(letter for letter in letters if person in table[letter[0]])))
+        for person in crowd_of(book)
+    )
 
 
 def nested(depth, core):

@@ -1,6 +1,7 @@
 """Plain readings of the document, slow and by its words, to compare the package with."""
 
 import itertools
+import math
 
 SIGNS = "abcdefghijklmnopqrstuvwxyz"
 
@@ -166,6 +167,17 @@ def runs(book, numbers):
     return [tuple(run) for run in itertools.product(*choices)]
 
 
+def many_runs(book, numbers):
+    """How many RUNS there are with so many LETTERS."""
+    many = 1
+    for person in crowd(book):
+        mine = [number for entry, number in zip(book, numbers) if person in entry[1]]
+        many *= math.factorial(sum(mine))
+        for number in mine:
+            many //= math.factorial(number)
+    return many
+
+
 def is_run(book, thing):
     if type(thing) is not tuple or any(type(pair) is not tuple or len(pair) != 2 for pair in thing):
         return False
@@ -255,3 +267,67 @@ def many_weavings(run):
                     following[key] = following.get(key, 0) + ways
         level = following
     return sum(level.values())
+
+
+def subsets(values):
+    """All subsets, those with fewer values first, of those with as many the lesser ones first."""
+    values = sorted(values)
+    return [some for many in range(len(values) + 1) for some in itertools.combinations(values, many)]
+
+
+def is_letter(thing):
+    return type(thing) is tuple and len(thing) == 2 and is_name(thing[0]) and type(thing[1]) is int and thing[1] > 0
+
+
+def is_ring(run, thing):
+    if type(thing) is not tuple or len(thing) < 2 or not all(is_letter(letter) for letter in thing):
+        return False
+    if len(set(thing)) < len(thing):
+        return False
+    seen = set(seen_pairs(run))
+    return all((thing[at - 1], thing[at]) in seen for at in range(len(thing)))
+
+
+def rings(run):
+    """All RINGS, ascending, each told once, from its least LETTER on."""
+    letters, seen = letters_in(run), set(seen_pairs(run))
+    after = {one: [other for other in letters if (one, other) in seen] for one in letters}
+    found = []
+    rows = [(letter,) for letter in letters]
+    while rows:
+        found.extend(row for row in rows if row[0] in after[row[-1]])
+        rows = [row + (letter,) for row in rows for letter in after[row[-1]] if letter > row[0] and letter not in row]
+    return sorted(found)
+
+
+def turns(ring):
+    """The same RING begun at each of its LETTERS."""
+    return [ring[at:] + ring[:at] for at in range(len(ring))]
+
+
+def is_tight(every, ring):
+    """Whether none of all RINGS of a RUN has fewer LETTERS, all of them of this one."""
+    return not any(len(other) < len(ring) and set(other) <= set(ring) for other in every)
+
+
+def disagree(run, one, other):
+    """Whether two people got these two LETTERS in both orders."""
+    seen = seen_pairs(run)
+    return (one, other) in seen and (other, one) in seen
+
+
+def partings(values):
+    """All sets of sets in which each of these values is in just one set."""
+    if not values:
+        return [()]
+    found = []
+    for rest in partings(values[1:]):
+        found.append(rest + ((values[0],),))
+        for at, some in enumerate(rest):
+            found.append(rest[:at] + (some + (values[0],),) + rest[at + 1:])
+    return sorted(tuple(sorted(tuple(sorted(some)) for some in sets)) for sets in found)
+
+
+def cut_rows(run, fits):
+    """The RUN with those LETTERS alone that fit."""
+    return tuple((person, tuple(letter for letter in row if fits(letter))) for person, row in run)

@@ -7,10 +7,11 @@ import unittest
 from calls import drawn_calls
 from drawing import RING
 from interface import FUNCTIONS
-from orderrings import webs
+from orderrings import judged, webs
 from reading import outcome
 
 CALLS = list(drawn_calls())
+LISTING = (webs.rounds, judged.short_rings)
 
 
 def as_lists(value):
@@ -80,7 +81,11 @@ class Calls(unittest.TestCase):
             lists = lists_for_tuples(args, as_lists)
             kept = copy.deepcopy(lists)
             outcome(call, *lists.values())
-            self.assertEqual(repr(lists), repr(kept))
+            self.assertTrue(lists == kept, call)
+            # 1 equals True, too; of a thing not all numbers have a repr.
+            for name in lists:
+                if name != "thing":
+                    self.assertEqual(repr(lists[name]), repr(kept[name]))
 
     def test_results_share_nothing_with_arguments(self):
         # Only tuples are inside of results: so a list that was handed in cannot be.
@@ -88,19 +93,27 @@ class Calls(unittest.TestCase):
             lists = lists_for_tuples(args, as_lists)
             if told.startswith("returns "):
                 result = call(*lists.values())
-                if call is webs.rounds:
+                if call in LISTING:
                     self.assertIs(type(result), list)
                     result = tuple(result)
                 self.assertLessEqual(all_kinds(result), {tuple, str, int, bool, type(None)}, call)
 
     def test_returned_lists_are_new(self):
-        for book in (RING, as_lists(RING)):
-            first = webs.rounds(book)
-            first.append("x")
-            second = webs.rounds(book)
-            self.assertEqual(second, [("a", "p", "b", "q", "c", "r")])
-            second.clear()
-            self.assertEqual(webs.rounds(book), [("a", "p", "b", "q", "c", "r")])
+        run = (("p", (("a", 1), ("b", 1))), ("q", (("b", 1), ("c", 1))), ("r", (("c", 1), ("a", 1))))
+        for call, values, told in (
+            (webs.rounds, RING, [("a", "p", "b", "q", "c", "r")]),
+            (judged.short_rings, run, [(("a", 1), ("b", 1), ("c", 1))]),
+        ):
+            for value in (values, as_lists(values)):
+                first = call(value)
+                first.append("x")
+                second = call(value)
+                self.assertEqual(second, told)
+                second.clear()
+                self.assertEqual(call(value), told)
+        calm = judged.short_rings(run[:2])
+        calm.append("x")
+        self.assertEqual(judged.short_rings(run[:2]), [])
 
     def test_each_error_is_raised(self):
         raised = {told.split()[1].rpartition(".")[2] for _, _, told in self.each() if told.startswith("raises ")}

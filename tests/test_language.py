@@ -33,6 +33,9 @@ STATEMENTS = (
 )
 TOP = (ast.Expr, ast.ImportFrom, ast.FunctionDef, ast.ClassDef, ast.Assign)
 LAZY = {"zip", "enumerate", "reversed", "map"}
+CHOOSING = {"product", "combinations", "permutations"}
+VIEWS = {"items", "keys", "values"}
+COMPREHENSIONS = (ast.ListComp, ast.SetComp, ast.DictComp)
 EAGER = {"list", "tuple", "dict", "sorted", "sum", "any", "all", "enumerate", "zip", "min", "max"}
 BARRED = set(
     "register mro elements open input law version_info with_traceback add_note type typing typing_extensions enum Enum "
@@ -70,6 +73,19 @@ def bound_names(tree):
             yield node.id, node
         elif isinstance(node, ast.alias):
             yield node.asname or node.name, node
+
+
+def assigned_names(function):
+    """The names that the statements of a function assign, without those of comprehensions."""
+    found = set()
+    for node in ast.walk(function):
+        if isinstance(node, ast.Name) and isinstance(node.ctx, ast.Store):
+            above = node.parent
+            while not isinstance(above, (ast.stmt, ast.comprehension)):
+                above = above.parent
+            if isinstance(above, ast.stmt):
+                found.add(node.id)
+    return found
 
 
 def top_names(node):
@@ -167,6 +183,56 @@ class Language(unittest.TestCase):
                 parent = node.parent
                 fits = isinstance(parent, (ast.For, ast.comprehension)) or called(parent) in EAGER
                 self.right(fits, path, node, "L23")
+            if called(node) in CHOOSING:
+                parent = node.parent
+                fits = isinstance(parent, (ast.For, ast.comprehension)) or called(parent) in EAGER - LAZY
+                self.right(fits, path, node, "L2")
+                self.right(called(node.args[0]) in ("list", "range"), path, node, "L2")
+                fits = all(isinstance(more, (ast.Constant, ast.Name)) for more in node.args[1:])
+                self.right(fits and not node.keywords, path, node, "L2")
+            if isinstance(node, ast.Call) and isinstance(node.func, ast.Attribute) and node.func.attr in VIEWS:
+                parent = node.parent
+                fits = isinstance(parent, (ast.For, ast.comprehension)) or called(parent) in EAGER
+                self.right(fits, path, node, "L23")
+
+    def test_names_in_comprehensions(self):
+        for path, node in NODES:
+            if not isinstance(node, COMPREHENSIONS):
+                continue
+            own = {name.id for part in node.generators for name in ast.walk(part.target) if isinstance(name, ast.Name)}
+            taken, inner = set(), False
+            outer = node.parent
+            while not isinstance(outer, ast.FunctionDef):
+                if isinstance(outer, COMPREHENSIONS):
+                    inner = True
+                    targets = [name for part in outer.generators for name in ast.walk(part.target)]
+                    taken |= {name.id for name in targets if isinstance(name, ast.Name)}
+                elif isinstance(outer, ast.Lambda):
+                    inner = True
+                    taken |= {arg.arg for arg in outer.args.args}
+                outer = outer.parent
+            if inner:
+                taken |= {arg.arg for arg in outer.args.args} | assigned_names(outer)
+                self.right(not own & taken - {"_"}, path, node, "L7")
+
+    def test_lambdas(self):
+        places = [(path, node.lineno) for path, node in NODES if isinstance(node, ast.Lambda)]
+        self.assertEqual(len(places), len(set(places)), "L13")
+        for path, node in NODES:
+            if isinstance(node, ast.Lambda):
+                self.right(not node.args.vararg and not node.args.kwarg and not node.args.defaults, path, node, "L4")
+
+    def test_imports_go_one_way(self):
+        needs = {}
+        for path, node in NODES:
+            if isinstance(node, ast.ImportFrom) and node.module.startswith("orderrings."):
+                needs.setdefault(path.stem, set()).add(node.module.partition(".")[2])
+        done = {path.stem for path, _, _ in FILES} - set(needs)
+        while needs:
+            free = {name for name, others in needs.items() if others <= done}
+            self.assertTrue(free, f"L16: {sorted(needs)}")
+            done |= free
+            needs = {name: others for name, others in needs.items() if name not in free}
 
     def test_sets(self):
         for path, node in NODES:

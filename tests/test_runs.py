@@ -6,64 +6,15 @@ import random
 import unittest
 
 import reading
+from checking import Refusing
 from drawing import APART, CHAIN, CIRCLE, FULL, RING, ROW, SAME, THINGS, TOLD_BOOKS
-from drawing import all_letters, drawn_book, drawn_books, drawn_numbers, drawn_row, drawn_run, thick_books
+from drawing import all_letters, bent_runs, drawn_book, drawn_books, drawn_numbers, drawn_row, drawn_run, small_numbers
+from drawing import thick_books
 from orderrings import runs, webs
 from orderrings.errors import NoNumber, Unfit
 
 BOOKS = drawn_books(21, 40, 3, 3) + thick_books(22, 15)
 GREAT = 10 ** 30
-
-
-def small_numbers(draw, book, most_runs):
-    """Numbers of LETTERS with few RUNS, so that the test can list them."""
-    while True:
-        numbers = drawn_numbers(draw, book, 5)
-        if many_runs(book, numbers) <= most_runs:
-            return numbers
-
-
-def many_runs(book, numbers):
-    many = 1
-    for person in reading.crowd(book):
-        mine = [number for entry, number in zip(book, numbers) if person in entry[1]]
-        many *= math.factorial(sum(mine))
-        for number in mine:
-            many //= math.factorial(number)
-    return many
-
-
-def bent_runs(draw, run):
-    """RUNS with one thing changed: most of them are none."""
-    yield list(run)
-    yield run[::-1]
-    yield run[1:]
-    yield run[:-1]
-    yield run + run[-1:]
-    yield run + (("zzz", ()),)
-    yield tuple(person for person, _ in run)
-    for at, (person, row) in enumerate(run):
-        pairs = [[person, row], (person, list(row)), (person,), (person, row, ()), (person, None), ("zzz", row), (1, row),
-                 row, (row, person), (person, row[::-1]), (person, row[1:]), (person, row[:-1]), (person, row + row[-1:]),
-                 (person, row + (("a", 1),)), (person, ()), (person, (row,)), ((person,), row), None]
-        for place, (group, number) in enumerate(row):
-            other = draw.choice(row)
-            letters = [[group, number], (group, True), (group, number + 1), (group, number - 1), (group, 0), (group, -1),
-                       (group, None), (group, str(number)), (group,), (group, number, 1), ("zzz", number), group, None,
-                       (1, number), other, (number, group), ((group, number),), (group, (number,)), (group, GREAT)]
-            pairs.extend((person, row[:place] + (letter,) + row[place + 1:]) for letter in letters)
-            pairs.append((person, row[:place] + row[place + 1:place + 2] + (row[place],) + row[place + 2:]))
-            pairs.append((person, row[:place] + row[place + 1:]))
-        for pair in pairs:
-            yield run[:at] + (pair,) + run[at + 1:]
-
-
-class Refusing(unittest.TestCase):
-    def refused(self, error, values, call, *args):
-        with self.assertRaises((LookupError, ValueError)) as caught:
-            call(*args)
-        self.assertIs(type(caught.exception), error)
-        self.assertEqual(vars(caught.exception), values)
 
 
 class IsRun(unittest.TestCase):
@@ -145,7 +96,7 @@ class Numbered(Refusing):
         for book in (FULL, CIRCLE, CHAIN, APART) + tuple(drawn_book(draw, 8, 8) for _ in range(6)):
             numbers = [3] * len(book) if draw.random() < 0.5 else drawn_numbers(draw, book, 24)
             many = runs.how_many_runs(book, numbers)
-            self.assertEqual(many, many_runs(book, numbers))
+            self.assertEqual(many, reading.many_runs(book, numbers))
             places = [0, many - 1] + [draw.randrange(many) for _ in range(5)]
             places += [number for number in (GREAT, GREAT - 1, 7) if number < many]
             told = [runs.nth_run(book, numbers, number) for number in sorted(set(places))]
@@ -175,7 +126,7 @@ class Numbered(Refusing):
         draw = random.Random(29)
         for book in BOOKS:
             numbers = tuple(draw.randint(0, 60) for _ in book)
-            self.assertEqual(runs.how_many_runs(book, numbers), many_runs(book, numbers))
+            self.assertEqual(runs.how_many_runs(book, numbers), reading.many_runs(book, numbers))
 
     def test_counts_in(self):
         draw = random.Random(30)
@@ -302,7 +253,7 @@ class Woven(unittest.TestCase):
             numbers = small_numbers(draw, book, 1500)
             every = [run for run in reading.runs(book, numbers) if reading.has_weaving(run)]
             self.assertEqual(runs.how_many_woven(book, numbers), len(every), (book, numbers))
-            fewer += len(every) < many_runs(book, numbers)
+            fewer += len(every) < reading.many_runs(book, numbers)
         self.assertGreater(fewer, 50)
 
     def test_seven_letters(self):

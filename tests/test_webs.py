@@ -5,6 +5,7 @@ import random
 import unittest
 
 import reading
+from checking import Refusing
 from drawing import APART, BOW, CHAIN, CIRCLE, FULL, KNOT, RING, ROW, SAME, SQUARE, THINGS, drawn_book, drawn_books
 from drawing import thick_books
 from orderrings import webs
@@ -39,14 +40,6 @@ def drawn_ways(draw, book):
         if draw.random() < 0.1:
             way = way[:-1] if draw.random() < 0.5 else way + [draw.choice(groups + crowd)]
         yield tuple(way)
-
-
-class Refusing(unittest.TestCase):
-    def refused(self, error, values, call, *args):
-        with self.assertRaises((LookupError, ValueError)) as caught:
-            call(*args)
-        self.assertIs(type(caught.exception), error)
-        self.assertEqual(vars(caught.exception), values)
 
 
 class Rounds(Refusing):

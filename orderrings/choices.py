@@ -1,0 +1,25 @@
+"""Choices among all subsets of a few values."""
+
+from itertools import combinations
+
+
+def least_subset(values, fits):
+    """Of the subsets of these ascending values that fit those with the fewest, of these the least one.
+
+    None if none fits; fits tells of a tuple of the values whether it does.
+    """
+    for many in range(len(values) + 1):
+        for some in combinations(list(values), many):
+            if fits(some):
+                return some
+    return None
+
+
+def all_subsets(values):
+    """The list of all subsets of these ascending values, as tuples."""
+    return [some for many in range(len(values) + 1) for some in combinations(list(values), many)]
+
+
+def all_pairs(values):
+    """The ascending list of the pairs of two of these ascending values, the lesser one first."""
+    return list(combinations(list(values), 2))
