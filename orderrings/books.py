@@ -1,7 +1,7 @@
 """Books: the groups and who is in them."""
 
 from orderrings.errors import Known, NoGroup, NoPerson, Unfit
-from orderrings.kinds import as_set, as_tuples, is_name, is_name_set, is_pair
+from orderrings.kinds import as_set, as_tuples, is_name, is_name_set, is_pair, rises
 
 
 def is_book(thing):
@@ -10,7 +10,7 @@ def is_book(thing):
         return False
     if not all([_is_entry(entry) for entry in thing]):
         return False
-    return all([low[0] < high[0] for low, high in zip(thing, thing[1:])])
+    return rises([group for group, _ in thing])
 
 
 def _is_entry(thing):

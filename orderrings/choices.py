@@ -20,6 +20,11 @@ def all_subsets(values):
     return [some for many in range(len(values) + 1) for some in combinations(list(values), many)]
 
 
+def subsets_of_size(values, many):
+    """The ascending list of the subsets of so many of these ascending values, as tuples."""
+    return list(combinations(list(values), many))
+
+
 def all_pairs(values):
     """The ascending list of the pairs of two of these ascending values, the lesser one first."""
-    return list(combinations(list(values), 2))
+    return subsets_of_size(values, 2)

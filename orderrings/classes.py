@@ -9,7 +9,7 @@ from orderrings.errors import NoNumber
 from orderrings.judged import is_ring
 from orderrings.kinds import as_set, as_tuples, is_pair
 from orderrings.rings import pairs_apart
-from orderrings.rows import letters_of, numbered
+from orderrings.rows import letters_of, numbered, rows_in
 from orderrings.runs import counts_in, is_run
 from orderrings.webs import blocks, is_round, round_from, way_between
 
@@ -36,7 +36,7 @@ def one_class(book):
 
 def keeps_classes(book, classes, run):
     """Whether the RUN keeps the CLASSES."""
-    rows = [row for _, row in as_tuples(run)]
+    rows = rows_in(run)
     return all([can_be_woven([letters_of(row, some) for row in rows]) for some in classes])
 
 

@@ -3,13 +3,8 @@
 from orderrings.books import cut_to, groups, people
 from orderrings.choices import least_subset
 from orderrings.circles import all_behind, behind_of, can_be_woven, circles_from, shortest_circle
-from orderrings.kinds import as_set, as_tuples, is_letter
-from orderrings.rows import letters_of
-
-
-def _rows(run):
-    """The list of the rows of all people."""
-    return [row for _, row in as_tuples(run)]
+from orderrings.kinds import as_set, as_tuples, is_letter, rises
+from orderrings.rows import letters_in, letters_of, rows_in
 
 
 def _stands_ahead(row, one, other):
@@ -34,7 +29,7 @@ def is_ring(run, thing):
         return False
     if len(thing) < 2 or len(as_set(thing)) < len(thing):
         return False
-    behind = behind_of(_rows(run))
+    behind = behind_of(rows_in(run))
     return all([other in behind.get(one, []) for one, other in _steps(thing)])
 
 
@@ -51,7 +46,7 @@ def short_ring(run):
 
 def a_ring(run):
     """A short RING of the RUN; None if there is no RING."""
-    return shortest_circle(behind_of(_rows(run)))
+    return shortest_circle(behind_of(rows_in(run)))
 
 
 def is_short_ring(run, thing):
@@ -64,13 +59,13 @@ def short_rings(run):
     many = short_ring(run)
     if many is None:
         return []
-    behind = behind_of(_rows(run))
+    behind = behind_of(rows_in(run))
     return sorted([ring for start in behind for ring in circles_from(behind, start, many)])
 
 
 def clashes(run):
     """The set of the pairs of LETTERS, the lesser one first, that people have in both orders."""
-    behind = behind_of(_rows(run))
+    behind = behind_of(rows_in(run))
     return as_set([
         (one, other)
         for one, others in behind.items()
@@ -86,7 +81,7 @@ def ring_letters(run):
 
 def mixed_up(run):
     """The set of the greatest sets of LETTERS of RINGS that are mixed up with one another."""
-    behind = behind_of(_rows(run))
+    behind = behind_of(rows_in(run))
     far = {letter: all_behind(behind, letter) for letter in behind}
     # Where a way leads from one LETTER to another one and back, each step of it is in some RING.
     return as_set([
@@ -98,7 +93,7 @@ def mixed_up(run):
 
 def settled_letters(run):
     """The set of the LETTERS that are in no RING and behind none of one, at once or by others between."""
-    behind = behind_of(_rows(run))
+    behind = behind_of(rows_in(run))
     unsettled = {letter: True for start in ring_letters(run) for letter in all_behind(behind, start)}
     return tuple(sorted([letter for letter in behind if letter not in unsettled]))
 
@@ -111,18 +106,14 @@ def cut_run(book, run, some):
 
 def least_ring_groups(book, run):
     """Of the sets of groups whose LETTERS alone have a RING the least of those with the fewest groups, or None."""
-    rows = _rows(run)
+    rows = rows_in(run)
     return least_subset(groups(book), lambda some: not can_be_woven([letters_of(row, some) for row in rows]))
 
 
 def against_row(run, row):
     """The set of the people whose LETTERS do not stand in this row of all LETTERS in their order."""
     place_of = {letter: place for place, letter in enumerate(as_tuples(row))}
-    return tuple([person for person, own in as_tuples(run) if not _rises([place_of[letter] for letter in own])])
-
-
-def _rises(numbers):
-    return all([low < high for low, high in zip(numbers, numbers[1:])])
+    return tuple([person for person, own in as_tuples(run) if not rises([place_of[letter] for letter in own])])
 
 
 def least_people_off(run):
@@ -156,9 +147,8 @@ def _swapped_rows(row_of, person, place):
 
 def least_letters_off(run):
     """Of the sets of LETTERS without which no RING is left the least of those with the fewest LETTERS."""
-    rows = _rows(run)
-    letters = as_set([letter for row in rows for letter in row])
-    return least_subset(letters, lambda off: can_be_woven([_without(row, off) for row in rows]))
+    rows = rows_in(run)
+    return least_subset(letters_in(rows), lambda off: can_be_woven([_without(row, off) for row in rows]))
 
 
 def _without(row, off):

@@ -36,7 +36,12 @@ def is_name_set(thing):
         return False
     if not all([is_name(item) for item in thing]):
         return False
-    return all([low < high for low, high in zip(thing, thing[1:])])
+    return rises(thing)
+
+
+def rises(values):
+    """Whether each of these values is below the next one."""
+    return all([low < high for low, high in zip(values, values[1:])])
 
 
 def as_set(values):

@@ -6,7 +6,7 @@ from orderrings.circles import can_be_woven
 from orderrings.forests import is_without_round
 from orderrings.judged import is_ring, short_ring
 from orderrings.kinds import as_set, as_tuples, is_pair
-from orderrings.rows import groups_in, letters_of, numbered
+from orderrings.rows import groups_in, letters_in, letters_of, numbered, rising_rows
 from orderrings.runs import counts_in, is_run
 from orderrings.webs import has_round
 
@@ -146,12 +146,6 @@ def _can_be_seen(book, steps, told):
     one, other = steps[0]
     for person in in_both(book, one[0], other[0]):
         own = told.get(person, []) + [steps[0]]
-        if can_be_woven(own + _rising_rows(own)) and _can_be_seen(book, steps[1:], {**told, person: own}):
+        if can_be_woven(own + rising_rows(letters_in(own))) and _can_be_seen(book, steps[1:], {**told, person: own}):
             return True
     return False
-
-
-def _rising_rows(steps):
-    """For each group the row of its LETTERS in these steps, in the order of their numbers."""
-    letters = as_set([letter for step in steps for letter in step])
-    return [letters_of(letters, (group,)) for group in as_set(groups_in(letters))]

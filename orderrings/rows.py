@@ -2,7 +2,7 @@
 
 from math import comb
 
-from orderrings.kinds import is_letter
+from orderrings.kinds import as_set, as_tuples, is_letter
 
 
 def numbered(some):
@@ -23,6 +23,21 @@ def groups_in(row):
 def letters_of(row, some):
     """The LETTERS of this row that are of these groups, in its order."""
     return tuple([letter for letter in row if letter[0] in some])
+
+
+def rows_in(run):
+    """The list of the rows of all people."""
+    return [row for _, row in as_tuples(run)]
+
+
+def letters_in(rows):
+    """The set of all LETTERS of these rows."""
+    return as_set([letter for row in rows for letter in row])
+
+
+def rising_rows(letters):
+    """For each group the row of its LETTERS among these ascending ones: in the order of their numbers."""
+    return [letters_of(letters, (group,)) for group in as_set(groups_in(letters))]
 
 
 def counts_of_row(thing, some):

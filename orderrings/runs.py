@@ -3,9 +3,10 @@
 from orderrings.books import groups, groups_of, people
 from orderrings.errors import NoNumber, Unfit
 from orderrings.kinds import as_set, as_tuples, is_letter, is_pair
-from orderrings.rows import counts_of_row, groups_in, how_many_rows, letters_of, nth_row, number_of_row, numbered
-from orderrings.weavings import apart_places, is_all, needs_of, next_letters, nothing_yet, ways_on, with_letter
-from orderrings.weavings import woven_runs
+from orderrings.rows import counts_of_row, groups_in, how_many_rows, letters_in, letters_of, nth_row, number_of_row
+from orderrings.rows import numbered, rows_in
+from orderrings.weavings import apart_places, is_all, least_weaving, needs_of, next_letters, nothing_yet, ways_on
+from orderrings.weavings import with_letter, woven_runs
 
 
 def is_run(book, thing):
@@ -90,39 +91,25 @@ def is_weaving(run, thing):
     if not isinstance(thing, tuple) or not all([is_letter(letter) for letter in thing]):
         return False
     place_of = {letter: place for place, letter in enumerate(thing)}
-    if len(place_of) < len(thing) or as_set(thing) != _all_letters(run):
+    if len(place_of) < len(thing) or as_set(thing) != letters_in(rows_in(run)):
         return False
     return all([place_of[one] < place_of[other] for one, other in seen_pairs(run)])
 
 
-def _all_letters(run):
-    """The set of all LETTERS of the RUN."""
-    return as_set([letter for _, row in as_tuples(run) for letter in row])
-
-
 def weaving(run):
     """The least WEAVING of the RUN; None if there is none."""
-    needs = needs_of(as_tuples(run))
-    done = nothing_yet(needs)
-    found = []
-    free = next_letters(needs, done)
-    while free:
-        # What may come now may come later, too: so the least one never bars the way.
-        found.append(free[0])
-        done = with_letter(done, free[0])
-        free = next_letters(needs, done)
-    return tuple(found) if is_all(needs, done) else None
+    return least_weaving(rows_in(run))
 
 
 def how_many_weavings(run):
     """How many WEAVINGS the RUN has."""
-    needs = needs_of(as_tuples(run))
+    needs = needs_of(rows_in(run))
     return ways_on(needs, nothing_yet(needs), {})
 
 
 def nth_weaving(run, number):
     """The WEAVING of the RUN with this number."""
-    needs = needs_of(as_tuples(run))
+    needs = needs_of(rows_in(run))
     done = nothing_yet(needs)
     known = {}
     if not 0 <= number < ways_on(needs, done, known):
@@ -142,7 +129,7 @@ def nth_weaving(run, number):
 
 def number_of_weaving(run, letters):
     """The number of this WEAVING of the RUN."""
-    needs = needs_of(as_tuples(run))
+    needs = needs_of(rows_in(run))
     done = nothing_yet(needs)
     known = {}
     number = 0

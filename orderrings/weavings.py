@@ -6,10 +6,10 @@ in their order, this tells all, and there are few such tuples.
 """
 
 
-def needs_of(run):
-    """For each LETTER of the RUN a dict: how many LETTERS of each group have to come ahead of it."""
+def needs_of(rows):
+    """For each LETTER of these rows a dict: how many LETTERS of each group have to come ahead of it."""
     needs = {}
-    for _, row in run:
+    for row in rows:
         ahead = {}
         for letter in row:
             need = needs.setdefault(letter, {})
@@ -43,6 +43,23 @@ def with_letter(done, letter):
 def is_all(needs, done):
     """Whether all LETTERS have come."""
     return sum([number for _, number in done]) == len(needs)
+
+
+def least_weaving(rows):
+    """The least row of all LETTERS of these rows in the order of which each of them is; None if there is none.
+
+    The LETTERS of each group must be numbered from 1, and stand in this order in each row.
+    """
+    needs = needs_of(rows)
+    done = nothing_yet(needs)
+    found = []
+    free = next_letters(needs, done)
+    while free:
+        # What may come now may come later, too: so the least one never bars the way.
+        found.append(free[0])
+        done = with_letter(done, free[0])
+        free = next_letters(needs, done)
+    return tuple(found) if is_all(needs, done) else None
 
 
 def ways_on(needs, done, known):

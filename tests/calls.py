@@ -3,9 +3,9 @@
 import random
 
 import reading
-from drawing import NAMES, THINGS, all_letters, circle_books, drawn_book, drawn_books, drawn_numbers, drawn_row, drawn_run
-from drawing import some_names, thick_books, wild_run
-from orderrings import books, classes, judged, leaving, rings, runs, webs
+from drawing import NAMES, THINGS, all_letters, circle_books, drawn_book, drawn_books, drawn_came, drawn_numbers, drawn_row
+from drawing import drawn_run, drawn_terms, drawn_tree, some_names, thick_books, wild_run
+from orderrings import books, classes, judged, leaving, rings, runs, some, terms, trees, waits, webs
 
 BOOKS = drawn_books(51, 20) + thick_books(52, 12) + circle_books(54, 6)
 
@@ -168,6 +168,104 @@ def leaving_calls(draw, book):
         yield leaving.least_ends_beside, {"book": book, "classes": sets}
 
 
+def tree_calls(draw, book):
+    crowd = reading.crowd(book)
+    tree = drawn_tree(draw, book)
+    yield from ((call, {"book": book}) for call in (
+        trees.fewest_pieces, trees.a_best_tree, trees.surely_tied, trees.maybe_tied, trees.plain_tree,
+    ))
+    if len(crowd) < 5:
+        yield from ((call, {"book": book}) for call in (trees.best_trees, trees.fewest_strangers, trees.quiet_tree))
+    for call in (trees.passers, trees.strangers, trees.pieces):
+        yield call, {"book": book, "tree": tree, "group": draw.choice([group for group, _ in book] * 3 + ["x"])}
+    for call in (trees.all_strangers, trees.all_pieces):
+        yield call, {"book": book, "tree": tree}
+    yield trees.groups_with, {"book": book, "one": draw.choice(crowd + ["x"]), "other": draw.choice(crowd + ["y"])}
+    for thing in (tree, list(tree), tree[1:], draw.choice(THINGS)):
+        for call in (trees.is_tree, trees.is_best_tree, trees.is_plain_tree):
+            yield call, {"book": book, "thing": thing}
+        if len(crowd) < 5:
+            yield trees.is_quiet_tree, {"book": book, "thing": thing}
+    for run in (drawn_run(draw, book, drawn_numbers(draw, book, 5)), wild_run(draw, book, drawn_numbers(draw, book, 6))):
+        for call in (trees.comes_by, trees.belts_for):
+            yield call, {"book": book, "tree": tree, "run": run}
+        for thing in (trees.belts_for(book, tree, run), run, list(run), draw.choice(THINGS)):
+            yield trees.are_belts, {"book": book, "tree": tree, "run": run, "thing": thing}
+
+
+def term_calls(draw):
+    own = drawn_terms(draw, "ghk", "abc", 4, 8)
+    group, person = draw.choice("ghkx"), draw.choice("abcy")
+    yield from ((call, {"terms": own}) for call in (terms.can_loop, terms.closed_way, terms.looping_week))
+    for thing in (own, list(own), own[::-1], draw.choice(THINGS)):
+        yield terms.is_terms, {"thing": thing}
+    yield terms.getters, {"terms": own, "group": group, "number": draw.choice((-1, 0, 1, 2, 3, 4, 10 ** 30))}
+    yield terms.terms_of, {"terms": own, "person": person}
+    for thing in (terms.closed_way(own), ("g", "a", "h", "b"), ["g", "a", "h", "b"], draw.choice(THINGS)):
+        yield terms.is_closed_way, {"terms": own, "thing": thing}
+    nothing = tuple((name, ()) for name in sorted(set(term[1] for term in own)))
+    for week in (terms.looping_week(own) or nothing, nothing):
+        yield terms.has_loop, {"terms": own, "week": week}
+        for thing in (week, list(week), draw.choice(THINGS)):
+            yield terms.is_week, {"terms": own, "thing": thing}
+    for place in (0, 1, -1, 7, len(own)):
+        for call in (terms.latest_last, terms.earliest_first):
+            yield call, {"terms": own, "place": place}
+    yield terms.earliest_join, {"terms": own, "group": group, "person": person}
+    for number in (1, 3, 10 ** 30):
+        one, other = draw.sample("abcy", 2)
+        yield terms.may_swap, {"terms": own, "group": group, "one": one, "other": other, "number": number}
+
+
+def some_calls(draw, book):
+    crowd = reading.crowd(book)
+    yield from ((call, {"book": book}) for call in (
+        some.quarrels, some.greatest_agreeing, some.sure_friends, some.fewest_sets, some.a_parting,
+    ))
+    run = wild_run(draw, book, drawn_numbers(draw, book, 8))
+    for names in (tuple(crowd), some_names(draw, 0, len(crowd), crowd), some_names(draw, 1, 2)):
+        yield some.agree, {"book": book, "run": run, "some": names}
+        for call in (some.surely_agree, some.round_among, some.quarrel_run):
+            yield call, {"book": book, "some": names}
+        way = some.round_among(book, tuple(crowd))
+        for thing in (way, way and list(way), draw.choice(THINGS)):
+            yield some.is_round_among, {"book": book, "some": names, "thing": thing}
+        for thing in (run, list(run), some.quarrel_run(book, tuple(crowd)), draw.choice(THINGS)):
+            yield some.is_quarrel_run, {"book": book, "some": names, "thing": thing}
+    for thing in (some.a_parting(book), list(some.a_parting(book)), (tuple(crowd),), draw.choice(THINGS)):
+        yield some.is_parting, {"book": book, "thing": thing}
+    one, other = draw.choice(crowd + ["x"]), draw.choice(crowd + ["y"])
+    for call in (some.can_cross, some.crossing_run):
+        yield call, {"book": book, "one": one, "other": other}
+
+
+def wait_calls(draw, book):
+    every = waits.all_waits(book)
+    person = draw.choice(reading.crowd(book))
+    yield waits.needed_waits, {"book": book}
+    yield waits.waits_of, {"book": book, "person": draw.choice((person, person, "x"))}
+    for own in (waits.needed_waits(book), every, tuple(wait for wait in every if draw.random() < 0.5)):
+        for thing in (own, list(own), own[::-1], draw.choice(THINGS)):
+            yield waits.is_waits, {"book": book, "thing": thing}
+        for call in (waits.are_enough_waits, waits.missing_waits, waits.spare_waits, waits.ring_in_spite):
+            yield call, {"book": book, "waits": own}
+        triple = waits.ring_in_spite(book, own)
+        for thing in (triple, triple and list(triple), (1, 2, 3), draw.choice(THINGS)):
+            yield waits.is_ring_in_spite, {"book": book, "waits": own, "thing": thing}
+        run = draw.choice((drawn_run, wild_run))(draw, book, drawn_numbers(draw, book, 6))
+        letters = drawn_row(draw, tuple(reading.letters_in(run)))
+        stamps = tuple(sorted(zip(letters, range(1, len(letters) + 1))))
+        for call in (waits.keeps_waits, waits.broken_waits):
+            yield call, {"run": run, "stamps": stamps, "waits": own}
+        yield waits.stamps_for, {"run": run, "waits": own}
+        for thing in (stamps, list(stamps), waits.stamps_for(run, own), draw.choice(THINGS)):
+            yield waits.is_stamps, {"run": run, "thing": thing}
+            yield waits.is_stamps_for, {"run": run, "waits": own, "thing": thing}
+        came = drawn_came(draw, [group for group, members in book if person in members], 6)
+        for call in (waits.shown_row, waits.held_back):
+            yield call, {"book": book, "waits": own, "person": draw.choice((person, person, person, "x")), "came": came}
+
+
 def drawn_calls():
     """Pairs (function, arguments by their names, in their order)."""
     draw = random.Random(53)
@@ -181,3 +279,7 @@ def drawn_calls():
         yield from class_calls(draw, book)
         yield from judged_calls(draw, book)
         yield from leaving_calls(draw, book)
+        yield from tree_calls(draw, book)
+        yield from term_calls(draw)
+        yield from some_calls(draw, book)
+        yield from wait_calls(draw, book)

@@ -114,6 +114,47 @@ def drawn_run(draw, book, numbers):
     return tuple(run)
 
 
+def drawn_tree(draw, book):
+    """Any TREE of the BOOK."""
+    crowd = crowd_of(book)
+    draw.shuffle(crowd)
+    return tuple(sorted(tuple(sorted((name, draw.choice(crowd[:at])))) for at, name in enumerate(crowd) if at))
+
+
+def gets_nothing_twice(terms, term):
+    """Whether the TERM gets its person nothing that one of the TERMS gets it."""
+    for group, person, first, last in terms:
+        if (group, person) == term[:2]:
+            if (last is None or last >= term[2]) and (term[3] is None or term[3] >= first):
+                return False
+    return True
+
+
+def drawn_terms(draw, groups, people, greatest, most):
+    """TERMS of these groups and people with numbers of at most greatest."""
+    found = []
+    for _ in range(draw.randint(0, 2 * most)):
+        first = draw.randint(1, greatest)
+        last = draw.choice((None, None, first, draw.randint(first, greatest), draw.randint(first, greatest)))
+        term = (draw.choice(groups), draw.choice(people), first, last)
+        if len(found) < most and gets_nothing_twice(found, term):
+            found.append(term)
+    return tuple(sorted(found, key=lambda term: term[:3]))
+
+
+def drawn_came(draw, groups, many):
+    """Letters of these groups with stamps that rise in each group, in any order."""
+    left = {}
+    for stamp in sorted(draw.sample(range(1, draw.choice((many, 2 * many, 60)) + 1), many)):
+        left.setdefault(draw.choice(groups), []).append(stamp)
+    came = []
+    while left:
+        group = draw.choice(sorted(left))
+        came.append((group, left[group].pop(0)))
+        left = {name: rest for name, rest in left.items() if rest}
+    return tuple(came)
+
+
 def bent_runs(draw, run):
     """RUNS with one thing changed: most of them are none."""
     yield list(run)
@@ -140,9 +181,11 @@ def bent_runs(draw, run):
 
 
 def bent_leaves(leaf):
-    """Other things in the place of a string or a number."""
+    """Other things in the place of a string, a number, None, True or False."""
     if isinstance(leaf, str):
         return [leaf + "x", "zzz", "", "A", None, 1, (leaf,), [leaf]]
+    if leaf is None or isinstance(leaf, bool):
+        return [None, True, False, 0, 1, 10 ** 30, "None", (leaf,), ()]
     return [leaf + 1, leaf - 1, -leaf, 0, True, None, str(leaf), (leaf,), 10 ** 30]
 
 

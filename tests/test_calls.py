@@ -7,11 +7,11 @@ import unittest
 from calls import drawn_calls
 from drawing import RING
 from interface import FUNCTIONS
-from orderrings import judged, webs
+from orderrings import judged, some, trees, webs
 from reading import outcome
 
 CALLS = list(drawn_calls())
-LISTING = (webs.rounds, judged.short_rings)
+LISTING = (webs.rounds, judged.short_rings, trees.best_trees, some.quarrels, some.greatest_agreeing)
 
 
 def as_lists(value):
@@ -103,6 +103,9 @@ class Calls(unittest.TestCase):
         for call, values, told in (
             (webs.rounds, RING, [("a", "p", "b", "q", "c", "r")]),
             (judged.short_rings, run, [(("a", 1), ("b", 1), ("c", 1))]),
+            (trees.best_trees, RING[:2], [(("p", "q"), ("p", "r"))]),
+            (some.quarrels, RING, [("p", "q", "r")]),
+            (some.greatest_agreeing, RING, [("p", "q"), ("p", "r"), ("q", "r")]),
         ):
             for value in (values, as_lists(values)):
                 first = call(value)
@@ -114,10 +117,13 @@ class Calls(unittest.TestCase):
         calm = judged.short_rings(run[:2])
         calm.append("x")
         self.assertEqual(judged.short_rings(run[:2]), [])
+        calm = some.quarrels(RING[:2])
+        calm.append("x")
+        self.assertEqual(some.quarrels(RING[:2]), [])
 
     def test_each_error_is_raised(self):
         raised = {told.split()[1].rpartition(".")[2] for _, _, told in self.each() if told.startswith("raises ")}
-        self.assertEqual(raised, {"NoGroup", "NoPerson", "NoNumber", "Known", "Unfit"})
+        self.assertEqual(raised, {"NoGroup", "NoPerson", "NoNumber", "NoTerm", "Known", "CanNot", "Unfit"})
 
 
 if __name__ == "__main__":

@@ -3,11 +3,11 @@
 import pathlib
 import unittest
 
-from orderrings import books, classes, errors, judged, leaving, rings, runs, webs
+from orderrings import books, classes, errors, judged, leaving, rings, runs, some, terms, trees, waits, webs
 
 EXAMPLES = pathlib.Path(__file__).with_name("examples.txt")
 # A later section may use a name again: so each row is looked up in the files of the package alone.
-FILES = (books, webs, runs, rings, classes, judged, leaving)
+FILES = (books, webs, runs, rings, classes, judged, leaving, trees, terms, some, waits)
 
 
 def raised(error):
@@ -39,7 +39,7 @@ class Examples(unittest.TestCase):
                     self.assertEqual(type(error).__module__, errors.__name__)
                     told = raised(error)
                 self.assertEqual(told, answer)
-        self.assertEqual(asked, 55)
+        self.assertEqual(asked, 80)
 
 
 if __name__ == "__main__":
