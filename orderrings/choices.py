@@ -28,3 +28,24 @@ def subsets_of_size(values, many):
 def all_pairs(values):
     """The ascending list of the pairs of two of these ascending values, the lesser one first."""
     return subsets_of_size(values, 2)
+
+
+def all_partings(values, fits):
+    """The list of all partings of these ascending values into sets that fit, each parting ascending.
+
+    fits tells of a tuple of the values whether it does; whatever lies within one that fits must fit, too.
+    """
+    found = [()]
+    for value in values:
+        found = [grown for sets in found for grown in _put_in(sets, value, fits)]
+    return found
+
+
+def _put_in(sets, value, fits):
+    """The list of these sets with the value in one of those with which it fits, or by itself."""
+    grown = [
+        sets[:at] + (some + (value,),) + sets[at + 1:]
+        for at, some in enumerate(sets)
+        if fits(some + (value,))
+    ]
+    return grown + [sets + ((value,),)]

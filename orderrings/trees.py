@@ -192,7 +192,7 @@ def belts_for(book, tree, run):
 def are_belts(book, tree, run, thing):
     """Whether thing is BELTS of the TREE and the RUN."""
     row_of = dict(as_tuples(run))
-    if not isinstance(thing, tuple) or len(thing) != len(row_of) or not all([is_pair(pair) for pair in thing]):
+    if not isinstance(thing, tuple) or not all([is_pair(pair) for pair in thing]):
         return False
     if [name for name, _ in thing] != list(row_of):
         return False
@@ -209,9 +209,9 @@ def are_belts(book, tree, run, thing):
 
 def _is_row_of(thing, letters):
     """Whether thing is a tuple of these ascending LETTERS, each once."""
-    if not isinstance(thing, tuple) or len(thing) != len(letters):
+    if not isinstance(thing, tuple) or not all([is_letter(letter) for letter in thing]):
         return False
-    return all([is_letter(letter) for letter in thing]) and tuple(sorted(thing)) == letters
+    return tuple(sorted(thing)) == letters
 
 
 def _stand_alike(one, other):

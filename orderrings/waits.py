@@ -71,15 +71,18 @@ def spare_waits(book, waits):
 
 def is_stamps(run, thing):
     """Whether thing is STAMPS of the RUN."""
+    if not isinstance(thing, tuple) or not all([_is_stamped(pair) for pair in thing]):
+        return False
     letters = letters_in(rows_in(run))
-    if not isinstance(thing, tuple) or len(thing) != len(letters):
-        return False
-    if not all([is_pair(pair) and is_letter(pair[0]) and is_number(pair[1]) and pair[1] >= 1 for pair in thing]):
-        return False
     if tuple([letter for letter, _ in thing]) != letters or len(as_set([stamp for _, stamp in thing])) < len(thing):
         return False
     stamp_of = dict(thing)
     return all([rises([stamp_of[letter] for letter in row]) for row in rising_rows(letters)])
+
+
+def _is_stamped(thing):
+    """Whether thing is a pair of a LETTER and a stamp."""
+    return is_pair(thing) and is_letter(thing[0]) and is_number(thing[1]) and thing[1] >= 1
 
 
 def keeps_waits(run, stamps, waits):

@@ -5,7 +5,7 @@ import random
 import reading
 from drawing import NAMES, THINGS, all_letters, circle_books, drawn_book, drawn_books, drawn_came, drawn_numbers, drawn_row
 from drawing import drawn_run, drawn_terms, drawn_tree, some_names, thick_books, wild_run
-from orderrings import books, classes, judged, leaving, rings, runs, some, terms, trees, waits, webs
+from orderrings import asked, books, classes, desk, judged, leaving, rings, runs, some, terms, texts, trees, waits, webs
 
 BOOKS = drawn_books(51, 20) + thick_books(52, 12) + circle_books(54, 6)
 
@@ -266,6 +266,55 @@ def wait_calls(draw, book):
             yield call, {"book": book, "waits": own, "person": draw.choice((person, person, person, "x")), "came": came}
 
 
+def asker_of(sets):
+    return lambda one, other: any(one in own and other in own for own in sets)
+
+
+def asked_calls(draw, book):
+    names = [group for group, _ in book]
+    pairs = [(one, other) for one in names for other in names if one < other]
+    every = reading.partings(names)
+    right = classes.nth_right(book, draw.randrange(classes.how_many_right(book)))
+    asker = asker_of(right)
+    for sets in (right, draw.choice(every)):
+        ask = asker_of(sets)
+        answers = tuple(pair + (ask(*pair),) for pair in pairs if draw.random() < 0.4)
+        for thing in (answers, list(answers), answers[::-1], draw.choice(THINGS)):
+            yield asked.is_answers, {"book": book, "thing": thing}
+        for call in (asked.can_answer, asked.how_many_answer, asked.surely_one, asked.surely_two, asked.still_hidden,
+                     asked.asks_left):
+            yield call, {"book": book, "answers": answers}
+        for call in (asked.asks_to_show, asked.showing_answers, asked.can_be_refuted, asked.refuting_run):
+            yield call, {"book": book, "classes": sets}
+        for thing in (asked.showing_answers(book, right), answers, list(answers), draw.choice(THINGS)):
+            yield asked.is_showing_answers, {"book": book, "classes": sets, "thing": thing}
+        for thing in (asked.refuting_run(book, (tuple(names),)), asked.refuting_run(book, sets), draw.choice(THINGS)):
+            yield asked.is_refuting_run, {"book": book, "classes": sets, "thing": thing}
+    yield asked.told_classes, {"book": book, "asker": asker}
+    run = wild_run(draw, book, drawn_numbers(draw, book, 6))
+    for call in (asked.barred_pairs, asked.classes_kept, asked.fewest_orderers):
+        yield call, {"book": book, "run": run}
+    yield asked.can_share, {"book": book, "run": run, "one": draw.choice(names + ["x"]), "other": draw.choice(names + ["y"])}
+
+
+def text_calls(draw, book):
+    run = drawn_run(draw, book, drawn_numbers(draw, book, 6))
+    row = draw.choice(run)[1]
+    sets = draw.choice(reading.partings([group for group, _ in book]))
+    for write, read, name, value in ((texts.book_text, texts.book_in, "book", book), (texts.row_text, texts.row_in, "row", row),
+                                     (texts.run_text, texts.run_in, "rows", run),
+                                     (texts.classes_text, texts.classes_in, "classes", sets)):
+        yield write, {name: value}
+        text = write(value)
+        for own in (text, text + " ", text[1:], text[::-1]):
+            yield read, {"text": own}
+    lines = ["send " + book[0][0], "get " + book[0][1][0] + " " + book[0][0], "rows", "calm", "undo", "classes", "can p", "look"]
+    for thing in lines + [lines, tuple(lines), draw.choice(THINGS)]:
+        yield desk.is_request, {"thing": thing}
+    for many in (0, 4, 7, 8):
+        yield desk.replies, {"book": book, "text": "\n".join(lines[:many])}
+
+
 def drawn_calls():
     """Pairs (function, arguments by their names, in their order)."""
     draw = random.Random(53)
@@ -283,3 +332,5 @@ def drawn_calls():
         yield from term_calls(draw)
         yield from some_calls(draw, book)
         yield from wait_calls(draw, book)
+        yield from asked_calls(draw, book)
+        yield from text_calls(draw, book)

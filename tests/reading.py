@@ -89,6 +89,18 @@ def rounds(book):
     return sorted(found)
 
 
+def grown_rounds(book):
+    """ALL ROUNDS of BOOKS in which there are not many."""
+    table = unordered(book)
+    found, ways = [], [(group,) for group in sorted(table)]
+    while ways:
+        ways = [way + (name,) for way in ways for name in table[way[-1]] if name not in way[1::2]]
+        found.extend(way for way in ways if is_plain_round(book, way))
+        ways = [way + (group,) for way in ways for group in sorted(table) if way[-1] in table[group] and group not in way[0::2]]
+        ways = [way for way in ways if way[-1] > way[0]]
+    return sorted(found)
+
+
 def on_round(way):
     """The MEMBERSHIPS on this ROUND."""
     found = set()

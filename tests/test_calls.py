@@ -1,17 +1,20 @@
 """[2]: each function called in all ways that the document allows."""
 
 import copy
+import functools
 import random
 import unittest
 
 from calls import drawn_calls
 from drawing import RING
 from interface import FUNCTIONS
-from orderrings import judged, some, trees, webs
+from orderrings import asked, desk, judged, some, trees, webs
 from reading import outcome
 
 CALLS = list(drawn_calls())
-LISTING = (webs.rounds, judged.short_rings, trees.best_trees, some.quarrels, some.greatest_agreeing)
+LISTING = (
+    webs.rounds, judged.short_rings, trees.best_trees, some.quarrels, some.greatest_agreeing, asked.classes_kept, desk.replies,
+)
 
 
 def as_lists(value):
@@ -40,10 +43,15 @@ def all_kinds(value):
     return found
 
 
+@functools.lru_cache(maxsize=None)
+def told_once():
+    """Triples: a function, its arguments by their names, and what the call returned or raised."""
+    return [(call, args, outcome(call, *args.values())) for call, args in CALLS]
+
+
 class Calls(unittest.TestCase):
     def each(self):
-        for call, args in CALLS:
-            yield call, args, outcome(call, *args.values())
+        yield from told_once()
 
     def test_each_function_is_called_and_most_of_them_return(self):
         returned = {call.__name__ for call, _, told in self.each() if told.startswith("returns ")}
@@ -114,6 +122,10 @@ class Calls(unittest.TestCase):
                 self.assertEqual(second, told)
                 second.clear()
                 self.assertEqual(call(value), told)
+        for value in (run, as_lists(run)):
+            kept = asked.classes_kept(RING, value)
+            kept.append("x")
+            self.assertEqual(len(asked.classes_kept(RING, value)), 4)
         calm = judged.short_rings(run[:2])
         calm.append("x")
         self.assertEqual(judged.short_rings(run[:2]), [])
@@ -123,7 +135,9 @@ class Calls(unittest.TestCase):
 
     def test_each_error_is_raised(self):
         raised = {told.split()[1].rpartition(".")[2] for _, _, told in self.each() if told.startswith("raises ")}
-        self.assertEqual(raised, {"NoGroup", "NoPerson", "NoNumber", "NoTerm", "Known", "CanNot", "Unfit"})
+        self.assertEqual(raised, {
+            "NoGroup", "NoPerson", "NoNumber", "NoTerm", "Known", "CanNot", "Unfit", "BadText", "BadLine",
+        })
 
 
 if __name__ == "__main__":

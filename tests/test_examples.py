@@ -3,11 +3,12 @@
 import pathlib
 import unittest
 
-from orderrings import books, classes, errors, judged, leaving, rings, runs, some, terms, trees, waits, webs
+from orderrings import asked, board, books, classes, desk, errors, judged, leaving, rings, runs, some, terms, texts, trees
+from orderrings import waits, webs
 
 EXAMPLES = pathlib.Path(__file__).with_name("examples.txt")
 # A later section may use a name again: so each row is looked up in the files of the package alone.
-FILES = (books, webs, runs, rings, classes, judged, leaving, trees, terms, some, waits)
+FILES = (books, webs, runs, rings, classes, judged, leaving, trees, terms, some, waits, asked, board, texts, desk)
 
 
 def raised(error):
@@ -26,20 +27,20 @@ def rows_with_answers():
 class Examples(unittest.TestCase):
     def test_all(self):
         world = {name: getattr(file, name) for file in FILES for name in dir(file) if name[0] != "_"}
-        asked = 0
+        answered = 0
         for row, answer in rows_with_answers():
             with self.subTest(row=row):
                 if answer is None:
                     exec(row, world)
                     continue
-                asked += 1
+                answered += 1
                 try:
                     told = repr(eval(row, world))
                 except (LookupError, ValueError) as error:
                     self.assertEqual(type(error).__module__, errors.__name__)
                     told = raised(error)
                 self.assertEqual(told, answer)
-        self.assertEqual(asked, 80)
+        self.assertEqual(answered, 106)
 
 
 if __name__ == "__main__":

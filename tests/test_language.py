@@ -122,6 +122,21 @@ class Language(unittest.TestCase):
                 self.right(node.end_lineno - node.lineno < 40, path, node, "L10")
                 self.right(not node.decorator_list, path, node, "L4")
 
+    def test_classes(self):
+        for path, node in NODES:
+            if isinstance(node, ast.ClassDef):
+                self.right(isinstance(node.parent, ast.Module) and not node.decorator_list, path, node, "L5")
+                for part in node.body:
+                    text = isinstance(part, ast.Expr) and isinstance(part.value, ast.Constant)
+                    self.right(text or isinstance(part, ast.FunctionDef), path, part, "L5")
+                methods = [part.name for part in node.body if isinstance(part, ast.FunctionDef)]
+                self.right(len(methods) == len(set(methods)), path, node, "L18")
+                stored = {part.attr for part in ast.walk(node) if isinstance(part, ast.Attribute) and isinstance(part.ctx, ast.Store)}
+                self.right(not stored & set(methods), path, node, "L18")
+            if isinstance(node, ast.FunctionDef) and node.name.startswith("__"):
+                self.right(isinstance(node.parent, ast.ClassDef), path, node, "L28")
+                self.right(node.name in ("__init__", "__eq__", "__repr__", "__str__", "__len__"), path, node, "L5")
+
     def test_imports(self):
         for path, node in NODES:
             self.right(not isinstance(node, ast.Import), path, node, "L16")

@@ -26,19 +26,7 @@ THREE = (("g", ("a", "b")), ("h", ("b", "c")), ("k", ("a", "c")))
 
 @functools.lru_cache(maxsize=None)
 def plain_rounds(book):
-    return reading.rounds(book) if len(book) < 7 else grown_rounds(book)
-
-
-def grown_rounds(book):
-    """ALL ROUNDS of BOOKS in which there are not many."""
-    table = reading.unordered(book)
-    found, ways = [], [(group,) for group in sorted(table)]
-    while ways:
-        ways = [way + (name,) for way in ways for name in table[way[-1]] if name not in way[1::2]]
-        found.extend(way for way in ways if reading.is_plain_round(book, way))
-        ways = [way + (group,) for way in ways for group in sorted(table) if way[-1] in table[group] and group not in way[0::2]]
-        ways = [way for way in ways if way[-1] > way[0]]
-    return sorted(found)
+    return reading.rounds(book) if len(book) < 7 else reading.grown_rounds(book)
 
 
 def rounds_among(book, names):

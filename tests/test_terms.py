@@ -342,6 +342,14 @@ class Ways(unittest.TestCase):
         self.assertIs(told.is_closed_way(terms, ("a", "a", "b", "b")), True)
         self.assertIs(told.is_closed_way(terms, told.closed_way(terms)), True)
         self.assertIs(told.can_loop(terms[:3]), False)
+        # The one CLOSED WAY has a person with the NAME of a group on it.
+        terms = (("a", "a", 1, 4), ("a", "b", 5, None), ("b", "a", 1, None), ("b", "b", 1, None))
+        self.assertEqual(closed_ways(terms), [("a", "b", "b", "a"), ("b", "a", "a", "b")])
+        self.assertIn(told.closed_way(terms), closed_ways(terms))
+        rest = (("b", "x", 1, None), ("b", "y", 1, None), ("c", "b", 1, None), ("c", "y", 1, None))
+        for terms in ((("a", "b", 1, 4), ("a", "x", 5, None)) + rest, (("a", "b", 5, None), ("a", "x", 1, 4)) + rest):
+            self.assertEqual(len(closed_ways(terms)), 3)
+            self.assertIn(told.closed_way(terms), closed_ways(terms))
 
     def test_eight_groups_and_people(self):
         table = {(group, one): (1, None) for group, one in zip("abcdefgh", "pqrstuvw")}
@@ -619,6 +627,12 @@ class Numbers(Refusing):
             right = told.may_swap(TERMS, "h", "a", "b", number)
             self.assertIs(told.may_swap(moved_up(TERMS, GREAT), "h", "a", "b", number + GREAT), right)
         self.assertIs(told.may_swap((), "g", "a", "b", GREAT), True)
+
+    def test_may_swap_from_the_first_letter_on(self):
+        """One gets the first LETTER of the group, too, and c just this one."""
+        terms = (("g", "c", 1, 1), ("h", "a", 5, None), ("h", "c", 1, 4))
+        self.assertEqual([told.may_swap(terms, "g", "a", "b", number) for number in (1, 2, 5)], [True, False, False])
+        self.assertEqual([told.may_swap(terms, "g", "b", "a", number) for number in (1, 2, 5)], [False, True, True])
 
     def test_eight_groups_and_people(self):
         for terms in EIGHT:
